@@ -282,6 +282,22 @@ func TestP1Rates(t *testing.T) {
 	}
 }
 
+// TestP1CheckRates: alone it says what Do says of rates.
+func TestP1CheckRates(t *testing.T) {
+	edges := []int{math.MinInt, -1, 0, 1, 255, 256, 257, math.MaxInt}
+	for _, learn := range edges {
+		for _, keep := range edges {
+			told := api.OK
+			if learn < 0 || learn > 256 || keep < 0 || keep > 256 {
+				told = api.ErrRange
+			}
+			if err := CheckRates(rates(learn, keep)); plain.Told(err) != told {
+				t.Errorf("CheckRates(%d, %d) = %v, want %v", learn, keep, err, told)
+			}
+		}
+	}
+}
+
 // TestP1WhatIsToldFirst: rates, then how many layers, then how many of the others, then what they are.
 func TestP1WhatIsToldFirst(t *testing.T) {
 	more := make([]api.Layer, api.MaxLayers+1)
