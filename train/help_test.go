@@ -150,6 +150,9 @@ func (a asked) must(t *testing.T, name string, want State, off int, told api.Err
 	if !sameState(s, want) || n != off || plain.Told(err) != told {
 		t.Errorf("%s: One(%v) =\n%v, %d, %v; want\n%v, %d, %v", name, a, s, n, err, want, off, told)
 	}
+	if err := CheckOne(a.s, a.b, a.parts, a.r); plain.Told(err) != told {
+		t.Errorf("%s: CheckOne(%v) = %v, want %v", name, a, err, told)
+	}
 }
 
 // mustSlowly holds One, and All of its one batch, against what was said once more.

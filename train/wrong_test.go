@@ -7,6 +7,7 @@ import (
 	"testing"
 
 	"galley/api"
+	"galley/plain"
 )
 
 // sayFaults are what One says behind what it says of the state.
@@ -255,6 +256,37 @@ func TestT3AllSteps(t *testing.T) {
 		refuseAll(t, "a wrong one more", a, append(l, api.Batch{}), api.ErrRange)
 		l[left] = api.Batch{}
 		refuseAll(t, "the last one is wrong", a, l, api.ErrShape)
+	}
+}
+
+// TestT3AllBy: who learns by a One of its own is asked batch by batch, each time
+// of what the one ahead told, and no more once something is wrong.
+func TestT3AllBy(t *testing.T) {
+	for wrongAt := range api.MaxEpochs + 2 {
+		count := 0
+		one := func(s State, b api.Batch) (State, int, error) {
+			if s.Steps != count || b.In.Rows != count {
+				t.Errorf("call %d was asked of %v, %v", count, s, b)
+			}
+			count++
+			if count > wrongAt {
+				return State{}, 0, api.ErrNone
+			}
+			return State{Steps: count}, 10 * count, nil
+		}
+		var l []api.Batch
+		var offs []int
+		for i := range api.MaxEpochs {
+			l, offs = append(l, batchOf(of(i, 0), of(i, 0))), append(offs, 10*(i+1))
+		}
+		s, got, err := AllBy(State{}, l, one)
+		if wrongAt < len(l) {
+			if !sameState(s, State{}) || len(got) != 0 || plain.Told(err) != api.ErrNone || count != wrongAt+1 {
+				t.Errorf("wrong at %d: AllBy = %v, %v, %v", wrongAt, s, got, err)
+			}
+		} else if !sameState(s, State{Steps: len(l)}) || !slices.Equal(got, offs) || err != nil {
+			t.Errorf("AllBy = %v, %v, %v; want %v", s, got, err, offs)
+		}
 	}
 }
 
