@@ -224,7 +224,7 @@ func TestW1SumsOfAnyBytes(t *testing.T) {
 	r := rand.New(rand.NewSource(3))
 	for long := range 400 {
 		for _, b := range [][]byte{make([]byte, long), slices.Repeat([]byte{255}, long), slices.Repeat([]byte{254}, long), slices.Repeat([]byte{1}, long), someBytes(r, long)} {
-			if got := sums(b); !slices.Equal(got[:], slowSums(b)) {
+			if got := Sums(b); !slices.Equal(got[:], slowSums(b)) {
 				t.Errorf("the sums of %v are %v, want %v", b, got, slowSums(b))
 			}
 		}
